@@ -1,0 +1,1 @@
+"""Quarterfold: shapes on a floor of cells, kept as quarters of quarters."""
