@@ -27,6 +27,15 @@ def not_whole():
     return [thing for thing in odd_things() if not (isinstance(thing, int) and not isinstance(thing, bool))]
 
 
+def all_addresses(n):
+    """The addresses of all squares of a floor of size n."""
+    told = [""]
+    for address in told:
+        if len(address) < n:
+            told.extend([address + figure for figure in "0123"])
+    return told
+
+
 def cells_told(telling):
     """The set of full cells of a telling, reckoned cell by cell."""
     n, top, rows = telling

@@ -4,18 +4,10 @@ import unittest
 
 from quarterfold.errors import NoAddress, NoCell, NoFloor
 from quarterfold.floors import address_of, box_of
-from tests.aids import not_whole, odd_things
+from tests.aids import all_addresses, not_whole, odd_things
 
 NO_SIZES = [-1, 13, True, False, None, "3", "", [3], (3,), 10 ** 50]
 NO_ADDRESSES = ["4", "0123", "012 ", "-1", "a", " ", "\n", "0\n", "00000000000000", ["0"], ("0", "1"), 0, 1, b"0", None]
-
-
-def all_addresses(n):
-    told = [""]
-    for address in told:
-        if len(address) < n:
-            told.extend([address + figure for figure in "0123"])
-    return told
 
 
 class BoxOf(unittest.TestCase):

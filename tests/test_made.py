@@ -6,8 +6,8 @@ from quarterfold.errors import NoAddress, NoBox, NoCell, NoFloor, NoShape, Other
 from quarterfold.floors import box_of
 from quarterfold.made import cells_of, is_full, of_boxes, of_cells, square_at, with_square
 from quarterfold.tellings import empty, full, is_shape
-from tests.aids import (Prickly, cells_from_bits, cells_told, checkered, long_shape, odd_things, scattered,
-                        shape_by_hand, some_floors)
+from tests.aids import (Prickly, all_addresses, cells_from_bits, cells_told, checkered, long_shape, odd_things,
+                        scattered, shape_by_hand, some_floors)
 
 A = (0, 1, 1, 0)
 NO_SIZES = [-1, 13, True, False, None, "3", [3], (3,)]
@@ -18,14 +18,6 @@ LIST = [(0, 0), (0, 3), (5, 1), (6, 6), (7, 6)]
 def cells_of_boxes(boxes):
     return {(row + down, column + right) for row, column, high, wide in boxes
             for down in range(high) for right in range(wide)}
-
-
-def all_addresses(n):
-    told = [""]
-    for address in told:
-        if len(address) < n:
-            told.extend([address + figure for figure in "0123"])
-    return told
 
 
 class OfCells(unittest.TestCase):
