@@ -24,12 +24,22 @@ def gather_leaves(rows, number, address, leaves):
         gather_leaves(rows, quarter, address + str(at), leaves)
 
 
+def want_leaves(shape, most):
+    """Refuse a shape with more leaves than that."""
+    if count_leaves(shape[1], shape[2]) > most:
+        raise TooMany(f"the shape has more than {most} leaves")
+
+
+def want_coarse(shape):
+    """Refuse a shape that isn't coarse."""
+    want_leaves(shape, MOST_LEAVES)
+
+
 def leaves_of(shape):
     """All leaves, tuples (address, True or False for full), sorted by address."""
     want_shape(shape)
+    want_coarse(shape)
     top, rows = shape[1:]
-    if count_leaves(top, rows) > MOST_LEAVES:
-        raise TooMany("the shape has more than 2,000 leaves")
     leaves = []
     gather_leaves(rows, top, "", leaves)
     return leaves

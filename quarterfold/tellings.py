@@ -1,6 +1,6 @@
 """Tellings, and the shapes among them: points 6 and 7 of the document."""
 
-from quarterfold.errors import NoShape, NoTelling
+from quarterfold.errors import NoShape, NoTelling, OtherFloor
 from quarterfold.floors import is_size, want_floor
 from quarterfold.rows import EMPTY, FIRST, FULL, depths_of, is_plain, is_whole, places_as_ended
 
@@ -52,6 +52,14 @@ def want_shape(shape):
     """Refuse what is no shape."""
     if not is_shape(shape):
         raise NoShape("a shape is a telling whose rows are unlike, not plain, and in the order in which they end")
+
+
+def want_one_floor(one, other):
+    """Refuse what is no shape, and two shapes of unlike floors."""
+    want_shape(one)
+    want_shape(other)
+    if one[0] != other[0]:
+        raise OtherFloor("the two shapes are of unlike floors")
 
 
 def empty(n):

@@ -27,6 +27,24 @@ def not_whole():
     return [thing for thing in odd_things() if not (isinstance(thing, int) and not isinstance(thing, bool))]
 
 
+def no_shapes():
+    """Things that are no shapes, many of them nearly one."""
+    row = (0, 1, 1, 0)
+    return odd_things() + [
+        (1, 2, ((0, 0, 0, 0),)), (2, 0, (row,)), (0, 2, (row,)), [0, 0, ()], (1, 2, [row]), (1, 2, ([0, 1, 1, 0],)),
+        (0, True, ()), (13, 0, ()), (True, 0, ()), (0, 2, ()), (2, 3, (row, row)), (1, 2, ((0, True, 1, 0),)),
+        (2, 4, ((1, 0, 0, 0), row, (3, 2, 0, 0))), (0, 0), (0, 0, (), ())]
+
+
+def refusal_of(deed, *things):
+    """The class of the error with which the things are refused, None where they are answered."""
+    try:
+        deed(*things)
+    except Exception as error:
+        return type(error)
+    return None
+
+
 def all_addresses(n):
     """The addresses of all squares of a floor of size n."""
     told = [""]
@@ -34,6 +52,15 @@ def all_addresses(n):
         if len(address) < n:
             told.extend([address + figure for figure in "0123"])
     return told
+
+
+def number_of_cell(shape, row, column):
+    """The number by which the cell stands, the way down gone by hand."""
+    n, number, rows = shape
+    for k in range(n - 1, -1, -1):
+        if number > 1:
+            number = rows[number - 2][2 * (row >> k & 1) + (column >> k & 1)]
+    return number
 
 
 def cells_told(telling):
@@ -107,10 +134,67 @@ def checkered(n):
     return (n, n + 1, tuple(rows))
 
 
-def long_shape():
+def scattered_cells(n, many, seed):
+    """So many cells of a floor of size n that look scattered; some may come twice."""
+    numbers = scattered(2 * many, seed)
+    return [(numbers[2 * k] % 2 ** n, numbers[2 * k + 1] % 2 ** n) for k in range(many)]
+
+
+def scattered_shape(n, many, seed):
+    """A shape of size n in which so many squares aren't plain: it has three times as many leaves and one."""
+    numbers = iter(scattered(20 * many + 100, seed))
+    leaves, split = [""], {}
+    while len(split) < many:
+        at = next(numbers) % len(leaves)
+        if len(leaves[at]) < n:
+            split[leaves[at]] = True
+            leaves[at:at + 1] = [leaves[at] + figure for figure in "0123"]
+    places, rows = {}, []
+
+    def go(address):
+        if address not in split:
+            return next(numbers) % 2
+        mine = [go(address + figure) for figure in "0123"]
+        if mine in ([0] * 4, [1] * 4):
+            mine[next(numbers) % 4] ^= 1
+        if tuple(mine) not in places:
+            places[tuple(mine)] = len(rows) + 2
+            rows.append(tuple(mine))
+        return places[tuple(mine)]
+
+    return (n, go(""), tuple(rows))
+
+
+def layered_shape(n, wide, seed):
+    """A shape of size n with at most so many rows for each size, and with up to a leaf for each cell."""
+    numbers = iter(scattered(4 * wide * n, seed))
+    layer, made = [0, 1], []
+    for size in range(1, n + 1):
+        many = 1 if size == n else wide
+        new = [tuple([layer[next(numbers) % len(layer)] for at in range(4)]) for row in range(many)]
+        layer = list(range(len(made) + 2, len(made) + 2 + many))
+        made.extend(new)
+    told, places, rows = {0: 0, 1: 1}, {}, []
+
+    def go(number):
+        if number not in told:
+            mine = tuple([go(quarter) for quarter in made[number - 2]])
+            if mine in ((0,) * 4, (1,) * 4):
+                told[number] = mine[0]
+            else:
+                if mine not in places:
+                    places[mine] = len(rows) + 2
+                    rows.append(mine)
+                told[number] = places[mine]
+        return told[number]
+
+    return (n, go(layer[0]), tuple(rows))
+
+
+def long_shape(seed=3):
     """A shape of more than a thousand rows: scattered cells, but for an empty quarter."""
     rows = []
-    bits = iter(scattered(3 * 4 ** 6, 3))
+    bits = iter(scattered(3 * 4 ** 6, seed))
 
     def go(size):
         if size == 0:

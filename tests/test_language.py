@@ -21,6 +21,8 @@ NamedTuple TypedDict TYPE_CHECKING abstractmethod""".split()
 BARRED = set("""register mro elements open input version_info with_traceback add_note attrgetter breakpoint builtins
 compile copyright credits delattr dir eval exec exit gc getattr globals hasattr help id importlib license locals
 methodcaller os quit setattr super type vars sys __name__""".split())
+LAZY = set("zip enumerate reversed range".split())
+TAKERS = set("list tuple dict sorted sum any all enumerate zip bytes min max len reversed".split())
 NODES = (ast.With, ast.Match, ast.Global, ast.Nonlocal, ast.Yield, ast.YieldFrom, ast.Await, ast.AsyncFunctionDef,
          ast.AsyncFor, ast.AsyncWith, ast.GeneratorExp, ast.NamedExpr, ast.Div, ast.MatMult, ast.Import)
 
@@ -148,6 +150,35 @@ class Language(unittest.TestCase):
                     self.assertIn(node.id, BUILTINS, (path.name, node.lineno))
                 if isinstance(node, ast.Call) and isinstance(node.func, ast.Attribute):
                     self.assertIn(node.func.attr, METHODS | own, (path.name, node.lineno))
+
+    def test_iterated_at_once(self):
+        for path, tree in trees():
+            on_the_spot = []
+            for node in ast.walk(tree):
+                if isinstance(node, (ast.For, ast.comprehension)):
+                    on_the_spot.append(node.iter)
+                if isinstance(node, ast.Call) and isinstance(node.func, ast.Name) and node.func.id in TAKERS:
+                    on_the_spot.extend(node.args)
+                if isinstance(node, ast.Compare):
+                    on_the_spot.extend(node.comparators)
+            for node in ast.walk(tree):
+                if isinstance(node, ast.Call) and isinstance(node.func, ast.Name) and node.func.id in LAZY:
+                    self.assertIn(node, on_the_spot, (path.name, node.lineno))
+
+    def test_no_name_is_a_method_and_an_attribute(self):
+        methods, attributes = set(), set()
+        for path, tree in trees():
+            for node in ast.walk(tree):
+                if isinstance(node, ast.ClassDef):
+                    methods |= {part.name for part in node.body if isinstance(part, ast.FunctionDef)}
+                if isinstance(node, ast.Attribute) and isinstance(node.ctx, ast.Store):
+                    attributes.add(node.attr)
+        self.assertEqual(methods & attributes, set())
+        # The names that point 26 gives to the methods of a board.
+        self.assertEqual(attributes & {"shape", "many", "parts", "holes", "put", "take", "undo"}, set())
+        for name in attributes:
+            for kind in (str, int, list, tuple, dict, set, bytes):
+                self.assertFalse(hasattr(kind, name), name)
 
     def test_imports(self):
         defined = {path.stem: defined_at_top(tree) for path, tree in trees()}

@@ -9,7 +9,7 @@ from quarterfold.made import cells_of, is_full, of_boxes, of_cells, square_at, w
 from quarterfold.shapetexts import read_shape, shape_text
 from quarterfold.steps import one_telling, steps_of
 from quarterfold.tellings import empty, full, is_shape
-from tests.aids import checkered, odd_things, shape_by_hand, some_floors
+from tests.aids import checkered, no_shapes, shape_by_hand, some_floors
 
 A = (0, 1, 1, 0)
 
@@ -82,7 +82,7 @@ class LeavesOf(unittest.TestCase):
                 leaves_of(with_unplain(size, 667))
 
     def test_no_shape(self):
-        for thing in odd_things() + [(1, 2, ((0, 0, 0, 0),)), (2, 0, (A,)), (0, 2, (A,)), [0, 0, ()], (1, 2, [A])]:
+        for thing in no_shapes():
             with self.assertRaises(NoShape):
                 leaves_of(thing)
 

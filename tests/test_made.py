@@ -6,12 +6,11 @@ from quarterfold.errors import NoAddress, NoBox, NoCell, NoFloor, NoShape, Other
 from quarterfold.floors import box_of
 from quarterfold.made import cells_of, is_full, of_boxes, of_cells, square_at, with_square
 from quarterfold.tellings import empty, full, is_shape
-from tests.aids import (Prickly, all_addresses, cells_from_bits, cells_told, checkered, long_shape, odd_things,
-                        scattered, shape_by_hand, some_floors)
+from tests.aids import (Prickly, all_addresses, cells_from_bits, cells_told, checkered, long_shape, no_shapes,
+                        number_of_cell, odd_things, scattered, shape_by_hand, some_floors)
 
 A = (0, 1, 1, 0)
 NO_SIZES = [-1, 13, True, False, None, "3", [3], (3,)]
-NO_SHAPES = [(1, 2, ((0, 0, 0, 0),)), (2, 0, (A,)), (0, 2, (A,)), [0, 0, ()], (1, 2, [A]), (0, True, ()), (13, 0, ())]
 LIST = [(0, 0), (0, 3), (5, 1), (6, 6), (7, 6)]
 
 
@@ -183,14 +182,6 @@ class OfBoxes(unittest.TestCase):
         self.assertEqual(shape, (1, 2, ((1, 0, 0, 1),)))
 
 
-def number_of_cell(shape, row, column):
-    n, number, rows = shape
-    for k in range(n - 1, -1, -1):
-        if number > 1:
-            number = rows[number - 2][2 * (row >> k & 1) + (column >> k & 1)]
-    return number
-
-
 class IsFull(unittest.TestCase):
     def test_each_cell(self):
         for n, cells in some_floors():
@@ -208,7 +199,7 @@ class IsFull(unittest.TestCase):
             self.assertIs(is_full(checkered(12), row, column), (row + column) % 2 == 1)
 
     def test_refusals(self):
-        for thing in odd_things() + NO_SHAPES:
+        for thing in no_shapes():
             for row in (0, -1, None):
                 with self.assertRaises(NoShape):
                     is_full(thing, row, 0)
@@ -247,7 +238,7 @@ class CellsOf(unittest.TestCase):
                 cells_of(shape)
 
     def test_no_shape(self):
-        for thing in odd_things() + NO_SHAPES:
+        for thing in no_shapes():
             with self.assertRaises(NoShape):
                 cells_of(thing)
 
@@ -278,7 +269,7 @@ class SquareAt(unittest.TestCase):
         self.assertEqual(square_at(of_boxes(12, [(0, 2048, 2048, 2048)]), "1230"), full(8))
 
     def test_refusals(self):
-        for thing in odd_things() + NO_SHAPES:
+        for thing in no_shapes():
             for address in ("", "9", None):
                 with self.assertRaises(NoShape):
                     square_at(thing, address)
@@ -341,7 +332,7 @@ class WithSquare(unittest.TestCase):
 
     def test_refusals(self):
         shape, other = of_cells(3, LIST), full(2)
-        for thing in odd_things() + NO_SHAPES:
+        for thing in no_shapes():
             for address in ("0", "9", None):
                 for last in (other, full(5), None):
                     with self.assertRaises(NoShape):
