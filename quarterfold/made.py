@@ -56,7 +56,7 @@ def framed_number(book, known, side, frames):
 
 
 def shape_of_boxes(n, boxes):
-    """The shape of size n in which the boxes are full."""
+    """The shape of size n in which the boxes are full, but for what of them is off the floor."""
     side = side_of(n)
     frames = [(row, column, row + high, column + wide) for row, column, high, wide in boxes]
     book = Book()

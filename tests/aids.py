@@ -104,6 +104,21 @@ def shape_by_hand(n, cells):
     return (n, go(0, 0, 2 ** n), tuple(rows))
 
 
+def leaf_of_each_cell(shape):
+    """The address of the leaf in which each cell lies, reckoned cell by cell."""
+    n, top, rows = shape
+    found = {}
+    for row in range(2 ** n):
+        for column in range(2 ** n):
+            number, address = top, ""
+            while number > 1:
+                k = n - 1 - len(address)
+                at = 2 * (row >> k & 1) + (column >> k & 1)
+                number, address = rows[number - 2][at], address + str(at)
+            found[(row, column)] = address
+    return found
+
+
 def cells_from_bits(n, bits):
     """The cells of a floor of size n whose bits are 1."""
     side = 2 ** n
