@@ -1,7 +1,7 @@
 """The leaves beside a square: point 16 of the document."""
 
 from quarterfold.errors import NoSide
-from quarterfold.floors import address_of, box_of, is_cell, want_address
+from quarterfold.floors import address_at, box_at, is_cell, want_address
 from quarterfold.leaves import want_coarse
 from quarterfold.rows import FIRST, is_whole
 from quarterfold.tellings import want_shape
@@ -39,23 +39,28 @@ def gather_along(rows, number, address, along, addresses):
         gather_along(rows, rows[number - FIRST][at], address + str(at), along, addresses)
 
 
-def beside(shape, address, side):
-    """The addresses of the leaves beside the square on that side, from the left or from above."""
-    want_shape(shape)
+def leaves_beside(shape, address, side):
+    """The addresses of the leaves beside the square on that side; nothing that is handed in is looked at again."""
     n, top, rows = shape
-    want_address(n, address)
-    want_side(side)
-    want_coarse(shape)
     down, right, along = SIDES[side]
-    row, column, cells = box_of(n, address)
+    row, column, cells = box_at(n, address)
     next_row = row + down * cells
     next_column = column + right * cells
     if not is_cell(n, next_row, next_column):
         return []
-    number, there = way_down(rows, top, address_of(n, next_row, next_column, n - len(address)))
+    number, there = way_down(rows, top, address_at(n, next_row, next_column, n - len(address)))
     # A leaf that has the next square whole may have this one, too.
     if address.startswith(there):
         return []
     addresses = []
     gather_along(rows, number, there, along, addresses)
     return addresses
+
+
+def beside(shape, address, side):
+    """The addresses of the leaves beside the square on that side, from the left or from above."""
+    want_shape(shape)
+    want_address(shape[0], address)
+    want_side(side)
+    want_coarse(shape)
+    return leaves_beside(shape, address, side)

@@ -50,10 +50,8 @@ def quarter_of(row, column, k):
     return 2 * ((row >> k) & 1) + ((column >> k) & 1)
 
 
-def box_of(n, address):
-    """The tuple (row, column, side) of the square at the address."""
-    want_floor(n)
-    want_address(n, address)
+def box_at(n, address):
+    """What box_of tells of an address that is known to be one."""
     row = column = 0
     side = side_of(n)
     for figure in address:
@@ -63,6 +61,18 @@ def box_of(n, address):
     return (row, column, side)
 
 
+def box_of(n, address):
+    """The tuple (row, column, side) of the square at the address."""
+    want_floor(n)
+    want_address(n, address)
+    return box_at(n, address)
+
+
+def address_at(n, row, column, size):
+    """What address_of tells of a cell and a size that are known to be such."""
+    return "".join([str(quarter_of(row, column, k)) for k in range(n - 1, size - 1, -1)])
+
+
 def address_of(n, row, column, size):
     """The address of the square of that size in which the cell lies."""
     want_floor(n)
@@ -70,4 +80,4 @@ def address_of(n, row, column, size):
     if size > n:
         raise NoFloor("no square is greater than its floor")
     want_cell(n, row, column)
-    return "".join([str(quarter_of(row, column, k)) for k in range(n - 1, size - 1, -1)])
+    return address_at(n, row, column, size)

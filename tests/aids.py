@@ -222,3 +222,92 @@ def long_shape(seed=3):
         return rows.index(mine) + 2
 
     return (7, go(7), tuple(rows))
+
+
+def cells_beside(cell, by):
+    """The cells, on the floor or not, that touch the cell by that way."""
+    row, column = cell
+    around = [(row + down, column + right) for down in (-1, 0, 1) for right in (-1, 0, 1) if (down, right) != (0, 0)]
+    return [(r, c) for r, c in around if by == "corners" or row == r or column == c]
+
+
+def led_together(cells, by):
+    """The cells in sets of those that are led to each other, in the order of their first cells."""
+    left, groups = set(cells), []
+    for start in sorted(cells):
+        if start in left:
+            left.discard(start)
+            group, ahead = {start}, [start]
+            while ahead:
+                for cell in cells_beside(ahead.pop(), by):
+                    if cell in left:
+                        left.discard(cell)
+                        group.add(cell)
+                        ahead.append(cell)
+            groups.append(group)
+    return groups
+
+
+def parts_by_hand(cells, by):
+    """The parts of a set of full cells, each a set of cells."""
+    return led_together(cells, by)
+
+
+def holes_by_hand(n, cells, by):
+    """The holes of a set of full cells, each a set of cells."""
+    last = 2 ** n - 1
+    empty_ones = {(row, column) for row in range(last + 1) for column in range(last + 1)} - set(cells)
+    groups = led_together(empty_ones, "sides" if by == "corners" else "corners")
+    return [group for group in groups if not any([0 in cell or last in cell for cell in group])]
+
+
+def bit_rows(shape):
+    """The floor's rows as whole numbers, the bit 2 ** column for each full cell: plain also of sixteen million cells."""
+    n, top, rows = shape
+    known = {}
+
+    def go(number, size):
+        if number < 2:
+            return [number * (2 ** 2 ** size - 1)] * 2 ** size
+        if (number, size) not in known:
+            four = [go(quarter, size - 1) for quarter in rows[number - 2]]
+            half = 2 ** (size - 1)
+            above = [left | right << half for left, right in zip(four[0], four[1])]
+            below = [left | right << half for left, right in zip(four[2], four[3])]
+            known[(number, size)] = above + below
+        return known[(number, size)]
+
+    return go(top, n)
+
+
+def rings(n, many, apart=2):
+    """Boxes (row, column, high, wide) of square rings within one another on a floor of size n, one cell thick."""
+    boxes = []
+    for k in range(many):
+        first, side = k * apart, 2 ** n - 2 * k * apart
+        last = first + side - 1
+        boxes += [(first, first, 1, side), (last, first, 1, side), (first, first, side, 1), (first, last, side, 1)]
+    return boxes
+
+
+def snake(wide, high):
+    """The cells of a snake of single cells that goes to and fro, one row empty between each two."""
+    cells = [(row, column) for row in range(0, high, 2) for column in range(wide)]
+    turns = [(row, wide - 1 if row % 4 == 1 else 0) for row in range(1, high - 1, 2)]
+    return cells + turns
+
+
+def comb(wide, high):
+    """The cells of a comb: a back along the first row, and a tooth in every other column."""
+    return [(0, column) for column in range(wide)] + [
+        (row, column) for column in range(0, wide, 2) for row in range(1, high)]
+
+
+def stair(steps, row=0, column=0):
+    """The cells of a stair that goes down to the right, two cells in each row."""
+    return [(row + k, column + k + at) for k in range(steps) for at in (0, 1)]
+
+
+def slope(steps, row=0, column=0):
+    """The cells of a line of cells that have corners alone in common."""
+    return [(row + k, column + k) for k in range(steps)]
