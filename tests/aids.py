@@ -262,7 +262,7 @@ def holes_by_hand(n, cells, by):
 
 
 def bit_rows(shape):
-    """The floor's rows as whole numbers, the bit 2 ** column for each full cell: plain also of sixteen million cells."""
+    """The floor's rows as whole numbers, the bit 2 ** column for each full cell; also of sixteen million cells."""
     n, top, rows = shape
     known = {}
 

@@ -118,7 +118,8 @@ class ByHand(unittest.TestCase):
         self.assertEqual(len(parts_of(shape, "sides")), 2)
         self.assertEqual(parts_of(shape, "corners"), [shape])
         shape = of_boxes(12, [(2048, 0, 2048, 2048), (2047, 2048, 1, 1)])
-        self.assertEqual(parts_of(shape, "sides"), [of_cells(12, [(2047, 2048)]), of_boxes(12, [(2048, 0, 2048, 2048)])])
+        self.assertEqual(parts_of(shape, "sides"),
+                         [of_cells(12, [(2047, 2048)]), of_boxes(12, [(2048, 0, 2048, 2048)])])
         self.assertEqual(parts_of(shape, "corners"), [shape])
 
     def test_two_empty_cells_with_a_corner_alone_in_common(self):
